@@ -1,0 +1,1 @@
+"""Leastjoined: code words made by joining the two least counts."""

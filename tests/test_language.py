@@ -1,0 +1,106 @@
+"""The rules of the language that a look at the files can check, for the files of the package."""
+
+import ast
+import pathlib
+import unittest
+
+PACKAGE = pathlib.Path(__file__).resolve().parent.parent / "leastjoined"
+LIBRARY = {"math": {"gcd", "lcm", "isqrt", "comb", "perm", "factorial"}}
+BUILTINS = {
+    "len", "range", "enumerate", "zip", "min", "max", "sum", "abs", "sorted", "reversed", "int", "str", "bool",
+    "list", "tuple", "dict", "set", "isinstance", "ord", "repr", "any", "all", "divmod", "ValueError",
+    "NotImplemented", "map",
+}
+INTERFACE = {
+    "errors.py": {"JoinsError": None},
+    "ratios.py": {
+        "Ratio": [
+            "__init__", "__add__", "__radd__", "__sub__", "__rsub__", "__mul__", "__rmul__", "__neg__", "__abs__",
+            "__eq__", "__str__", "is_less", "divided",
+        ],
+    },
+    "codes.py": {
+        "check_counts": None, "Code": ["__init__", "__eq__"], "cost": None, "number_of_codes": None, "all_codes": None,
+    },
+}
+
+
+def called_names(tree):
+    return {node.func.id for node in ast.walk(tree) if isinstance(node, ast.Call) and isinstance(node.func, ast.Name)}
+
+
+def bound_names(tree):
+    names = {node.name for node in ast.walk(tree) if isinstance(node, (ast.FunctionDef, ast.ClassDef))}
+    names |= {node.id for node in ast.walk(tree) if isinstance(node, ast.Name) and isinstance(node.ctx, ast.Store)}
+    names |= {node.arg for node in ast.walk(tree) if isinstance(node, ast.arg)}
+    for node in ast.walk(tree):
+        if isinstance(node, ast.ImportFrom):
+            names |= {alias.name for alias in node.names}
+    return names
+
+
+class LanguageTest(unittest.TestCase):
+    def setUp(self):
+        self.paths = sorted(PACKAGE.rglob("*.py"))
+        self.texts = {path.name: path.read_text(encoding="utf-8") for path in self.paths}
+        self.trees = {name: ast.parse(text) for name, text in self.texts.items()}
+
+    def test_only_files_of_python(self):
+        for path in PACKAGE.rglob("*"):
+            if path.name != "__pycache__" and path.parent.name != "__pycache__":
+                self.assertEqual(path.suffix, ".py", path)
+
+    def test_sizes_and_characters(self):
+        for name, text in self.texts.items():
+            rows = text.split("\n")
+            self.assertLess(len(rows), 400, name)
+            for row in rows:
+                self.assertLessEqual(len(row), 120, (name, row))
+                self.assertTrue(all(" " <= letter <= "~" for letter in row), (name, row))
+
+    def test_sizes_of_functions(self):
+        for name, tree in self.trees.items():
+            for node in ast.walk(tree):
+                if isinstance(node, ast.FunctionDef):
+                    self.assertLessEqual(node.end_lineno - node.lineno + 1, 40, (name, node.name))
+                    self.assertEqual(node.decorator_list, [], (name, node.name))
+
+    def test_imports(self):
+        for name, tree in self.trees.items():
+            for node in ast.walk(tree):
+                self.assertNotIsInstance(node, ast.Import, name)
+                if isinstance(node, ast.ImportFrom):
+                    asked = {alias.name for alias in node.names}
+                    if node.module in LIBRARY:
+                        self.assertLessEqual(asked, LIBRARY[node.module], name)
+                    else:
+                        self.assertTrue(node.module.startswith("leastjoined."), (name, node.module))
+                        other = self.trees[node.module.split(".")[1] + ".py"]
+                        defined = {part.name for part in other.body if hasattr(part, "name")}
+                        self.assertLessEqual(asked, defined | bound_names(ast.Module(other.body, [])), name)
+
+    def test_builtins(self):
+        for name, tree in self.trees.items():
+            known = bound_names(tree) | BUILTINS
+            self.assertLessEqual(called_names(tree), known, name)
+
+    def test_barred_parts(self):
+        barred = (ast.Global, ast.AsyncFunctionDef, ast.Div, ast.GeneratorExp)
+        for name, tree in self.trees.items():
+            for node in ast.walk(tree):
+                self.assertNotIsInstance(node, barred, (name, getattr(node, "lineno", None)))
+                if isinstance(node, ast.Constant):
+                    self.assertNotIsInstance(node.value, (float, complex), (name, node.lineno))
+
+    def test_interface_is_defined_where_it_is_listed(self):
+        for name, listed in INTERFACE.items():
+            bodies = {part.name: part for part in self.trees[name].body if hasattr(part, "name")}
+            for word, methods in listed.items():
+                self.assertIn(word, bodies, name)
+                if methods is not None:
+                    own = {part.name for part in bodies[word].body if isinstance(part, ast.FunctionDef)}
+                    self.assertLessEqual(set(methods), own, word)
+
+
+if __name__ == "__main__":
+    unittest.main()
