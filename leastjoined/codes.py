@@ -32,6 +32,30 @@ def check_counts_of(code, counts):
         raise OtherSize(len(counts), code.size)
 
 
+def fits(code, counts):
+    """Whether a value is a code and another one a tuple of counts, one for each of its signs."""
+    if not isinstance(code, Code) or not isinstance(counts, tuple) or len(counts) != code.size:
+        return False
+    return all([is_int(count) and count >= 0 for count in counts])
+
+
+def joint_level(lengths):
+    """The k for which words of these lengths have the width 1 / 2 ** k together, None if there is none."""
+    # So many widths of 1 / 2 ** level are found so far; what is odd among the narrowest ones stays odd.
+    found, level = 0, 0
+    for length in sorted(lengths, reverse=True):
+        while found != 0 and length < level:
+            if found & 1 == 1:
+                return None
+            found, level = found // 2, level - 1
+        found, level = found + 1, length
+    while found > 1 and found & 1 == 0:
+        found, level = found // 2, level - 1
+    if found == 1:
+        return level
+    return None
+
+
 def check_lengths(lengths):
     """Raises TooMany, BadLength or NotFull unless these are lengths of a full code."""
     check_many(len(lengths))

@@ -5,9 +5,8 @@ from math import factorial
 
 from leastjoined.codes import Code, all_codes, check_counts, cost, number_of_codes
 from leastjoined.ratios import Ratio
-from values import any_values, fields, no_integers, raised
+from values import GREAT, any_values, fields, no_integers, raised
 
-GREAT = 10 ** 40 - 1
 STEEP = [*range(1, 26), 25]
 
 

@@ -22,6 +22,38 @@ CODES = """
 [False, [(1, 2, 2), (2, 1, 2), (2, 2, 1)], 4347]
 """
 
+JOINING = """
+>>> from leastjoined.joining import is_joining, joined
+>>> told = joined([1, 1, 1, 2], "old")
+>>> [told.steps, told.code.lengths, told.cost, joined([1, 1, 1, 2], "new").code.lengths]
+[((0, 1, 2), (2, 3, 3), (4, 5, 5)), (2, 2, 2, 2), 10, (2, 3, 3, 1)]
+>>> is_joining([1, 1, 1, 2], [(1, 0, 2), (2, 4, 3), (3, 5, 5)])
+True
+"""
+
+LEAST = """
+>>> from leastjoined.codes import Code, cost
+>>> from leastjoined.least import is_better, judge, least_codes, levels
+>>> levels(Code([1, 2, 3, 3]), [8, 4, 2, 1])[1:]
+(((7, (1, 2, 3)), (8, (0,))), ((3, (2, 3)), (4, (1,))), ((1, (3,)), (2, (2,))))
+>>> told = judge(Code([2, 2, 2, 2]), [8, 4, 2, 1])
+>>> [is_better(told), cost(told.other, [8, 4, 2, 1]) < 30, [code.lengths for code in least_codes([2, 1, 1, 1])]]
+[True, True, [(1, 2, 3, 3), (1, 3, 2, 3), (1, 3, 3, 2), (2, 2, 2, 2)]]
+"""
+
+BORDERS = """
+>>> from leastjoined.codes import Code
+>>> from leastjoined.borders import bunches, is_border, number_of_borders, parts, border, borders
+>>> borders(Code([1, 2, 3, 3]))
+(((0,), (1,)), ((0,), (2, 3)), ((1,), (2,)), ((1,), (3,)))
+>>> told = border(Code([1, 2, 3, 3]), (0,), (2, 3))
+>>> [told.other.lengths, is_border(told), bunches(Code([2, 2, 2, 2]), 1)[:3], number_of_borders(Code([2, 2, 2, 2]))]
+[(2, 2, 2, 2), True, ((0, 1), (0, 2), (0, 3)), 12]
+>>> one, other = parts(Code([3] * 8), (0, 1, 2, 3), (4, 5))
+>>> [sorted(one[0] + other[0]), sorted(one[1] + other[1]), len(one[0])]
+[[0, 1, 2, 3], [4, 5], 2]
+"""
+
 
 class ExamplesTest(unittest.TestCase):
     def shows(self, text, many):
@@ -36,8 +68,17 @@ class ExamplesTest(unittest.TestCase):
     def test_codes(self):
         self.shows(CODES, 4)
 
+    def test_joining(self):
+        self.shows(JOINING, 4)
+
+    def test_least(self):
+        self.shows(LEAST, 5)
+
+    def test_borders(self):
+        self.shows(BORDERS, 7)
+
     def test_readme(self):
-        self.shows(README.read_text(encoding="utf-8").replace("\n```", "\n"), 9)
+        self.shows(README.read_text(encoding="utf-8").replace("\n```", "\n"), 16)
 
 
 if __name__ == "__main__":

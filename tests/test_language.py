@@ -1,15 +1,25 @@
 """The rules of the language that a look at the files can check, for the files of the package."""
 
 import ast
+import builtins
 import pathlib
 import unittest
 
 PACKAGE = pathlib.Path(__file__).resolve().parent.parent / "leastjoined"
-LIBRARY = {"math": {"gcd", "lcm", "isqrt", "comb", "perm", "factorial"}}
+LIBRARY = {
+    "math": {"gcd", "lcm", "isqrt", "comb", "perm", "factorial"},
+    "heapq": {"heappush", "heappop", "heapify", "heapreplace", "heappushpop"},
+    "itertools": {"product", "combinations", "permutations"},
+}
 BUILTINS = {
     "len", "range", "enumerate", "zip", "min", "max", "sum", "abs", "sorted", "reversed", "int", "str", "bool",
     "list", "tuple", "dict", "set", "isinstance", "ord", "repr", "any", "all", "divmod", "ValueError",
     "NotImplemented", "map",
+}
+# Words that no variable, function, class or import may be called.
+WORDS = {
+    "register", "mro", "elements", "law", "version_info", "with_traceback", "add_note", "attrgetter", "gc", "importlib",
+    "methodcaller", "os", "sys", "typing", "enum",
 }
 INTERFACE = {
     "errors.py": {"JoinsError": None},
@@ -21,6 +31,15 @@ INTERFACE = {
     },
     "codes.py": {
         "check_counts": None, "Code": ["__init__", "__eq__"], "cost": None, "number_of_codes": None, "all_codes": None,
+    },
+    "joining.py": {"joined": None, "Joining": ["__init__"], "least_cost": None, "is_joining": None},
+    "least.py": {
+        "levels": None, "judge": None, "Least": ["__init__"], "Better": ["__init__"], "is_least": None,
+        "is_better": None, "least_codes": None,
+    },
+    "borders.py": {
+        "number_of_bunches": None, "bunches": None, "number_of_borders": None, "borders": None, "border": None,
+        "Border": ["__init__"], "parts": None, "is_border": None,
     },
 }
 
@@ -36,6 +55,19 @@ def bound_names(tree):
     for node in ast.walk(tree):
         if isinstance(node, ast.ImportFrom):
             names |= {alias.name for alias in node.names}
+    return names
+
+
+def local_names(tree):
+    """The parameters and local variables of a file, and the functions that are nested."""
+    names = {node.arg for node in ast.walk(tree) if isinstance(node, ast.arg)}
+    for function in ast.walk(tree):
+        if isinstance(function, ast.FunctionDef):
+            for node in ast.walk(function):
+                if isinstance(node, ast.Name) and isinstance(node.ctx, ast.Store):
+                    names.add(node.id)
+                elif isinstance(node, ast.FunctionDef) and node is not function:
+                    names.add(node.name)
     return names
 
 
@@ -83,6 +115,31 @@ class LanguageTest(unittest.TestCase):
         for name, tree in self.trees.items():
             known = bound_names(tree) | BUILTINS
             self.assertLessEqual(called_names(tree), known, name)
+
+    def test_names(self):
+        for name, tree in self.trees.items():
+            classes = {node.name for node in ast.walk(tree) if isinstance(node, ast.ClassDef)}
+            asked = set()
+            for node in ast.walk(tree):
+                if isinstance(node, ast.ImportFrom):
+                    asked |= {alias.name for alias in node.names}
+            self.assertEqual(local_names(tree) & (classes | asked), set(), name)
+            barred = (set(dir(builtins)) | WORDS) - {"_"}
+            self.assertEqual((local_names(tree) | classes | asked) & barred, set(), name)
+            functions = [node.name for node in tree.body if hasattr(node, "name")]
+            self.assertEqual(len(functions), len(set(functions)), name)
+
+    def test_no_ring_of_imports(self):
+        asked = {
+            name: {node.module.split(".")[1] + ".py" for node in ast.walk(tree)
+                   if isinstance(node, ast.ImportFrom) and node.module.startswith("leastjoined.")}
+            for name, tree in self.trees.items()
+        }
+        done = set()
+        while len(done) < len(asked):
+            more = {name for name, others in asked.items() if others <= done} - done
+            self.assertTrue(more, asked)
+            done |= more
 
     def test_barred_parts(self):
         barred = (ast.Global, ast.AsyncFunctionDef, ast.Div, ast.GeneratorExp)

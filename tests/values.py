@@ -4,6 +4,8 @@ from leastjoined.codes import Code
 from leastjoined.errors import BadCount, JoinsError
 from leastjoined.ratios import Ratio
 
+GREAT = 10 ** 40 - 1
+
 
 def no_integers():
     """Values of every kind that are no integers, new with each call."""
