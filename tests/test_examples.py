@@ -54,6 +54,50 @@ BORDERS = """
 [[0, 1, 2, 3], [4, 5], 2]
 """
 
+LIMITS = """
+>>> from leastjoined.codes import Code, cost
+>>> from leastjoined.limits import is_better_within, judge_within, least_within, prices
+>>> prices([8, 4, 2, 1, 1])
+((3, 32), (4, 30))
+>>> told = judge_within(Code([1, 2, 3, 3]), [8, 4, 2, 1], 3)
+>>> [told.held, told.free]
+[(8, 4, 2), (20, 8, 4)]
+>>> other = judge_within(Code([2, 2, 2, 2]), [8, 4, 2, 1], 3)
+>>> [is_better_within(other), cost(least_within([8, 4, 2, 1], 2), [8, 4, 2, 1])]
+[True, 30]
+"""
+
+CHANGES = """
+>>> from leastjoined.changes import nearest, slack, taken, until
+>>> from leastjoined.codes import Code
+>>> four, three = Code([2, 2, 2, 2]), Code([1, 2, 2])
+>>> near = nearest(four, [1, 1, 1, 1])
+>>> [near.many, len(near.light), len(near.heavy), slack(three, [9, 1, 1]), taken(three, [9, 1, 1])]
+[2, 2, 1, 8, 9]
+>>> [until(four, [1, 1, 1, 1], Code([1, 2, 3, 3])), nearest(Code([1, 1]), [0, 7]).many]
+[(1, 0), None]
+"""
+
+COMMON = """
+>>> from leastjoined.common import common, is_plan, plan
+>>> told = common([[1, 0, 0], [1, 1, 0], [1, 2, 0]])
+>>> [common([[1, 0, 0], [1, 1, 0]]).code.lengths, told.whole, told.parts]
+[(1, 2, 2), 9, (1, 3, 4)]
+>>> way = plan(3, [0, 1, 1, 0], 1)
+>>> [len(way.codes), way.codes[0][0], is_plan(3, [0, 1, 1, 0], 1, way.codes, way.stops)]
+[2, 1, True]
+"""
+
+GROWN = """
+>>> from leastjoined.codes import Code
+>>> from leastjoined.grown import Text, first_lost
+>>> text = Text(3, {"AB": [(0, 1), (1, 1)], "TOP": [("AB", 10 ** 30), (1, 10 ** 20), (2, 3)]}, "TOP")
+>>> [text.size == 2 * 10 ** 30 + 10 ** 20 + 3, text.sign_of(10 ** 30), text.part(2 * 10 ** 30 - 2, 4), text.ahead(5)]
+[True, 0, (0, 1, 1, 1), (3, 2, 0)]
+>>> [first_lost(Code([1, 2, 2]), [5, 0, 0], text), first_lost(Code([1, 2, 2]), [10 ** 25, 0, 0], text)]
+[2000000000000000000000000000006, None]
+"""
+
 
 class ExamplesTest(unittest.TestCase):
     def shows(self, text, many):
@@ -77,8 +121,20 @@ class ExamplesTest(unittest.TestCase):
     def test_borders(self):
         self.shows(BORDERS, 7)
 
+    def test_limits(self):
+        self.shows(LIMITS, 7)
+
+    def test_changes(self):
+        self.shows(CHANGES, 6)
+
+    def test_common(self):
+        self.shows(COMMON, 5)
+
+    def test_grown(self):
+        self.shows(GROWN, 5)
+
     def test_readme(self):
-        self.shows(README.read_text(encoding="utf-8").replace("\n```", "\n"), 16)
+        self.shows(README.read_text(encoding="utf-8").replace("\n```", "\n"), 27)
 
 
 if __name__ == "__main__":

@@ -9,7 +9,9 @@ PACKAGE = pathlib.Path(__file__).resolve().parent.parent / "leastjoined"
 LIBRARY = {
     "math": {"gcd", "lcm", "isqrt", "comb", "perm", "factorial"},
     "heapq": {"heappush", "heappop", "heapify", "heapreplace", "heappushpop"},
-    "itertools": {"product", "combinations", "permutations"},
+    "itertools": {
+        "product", "combinations", "permutations", "chain", "accumulate", "pairwise", "islice", "zip_longest",
+    },
 }
 BUILTINS = {
     "len", "range", "enumerate", "zip", "min", "max", "sum", "abs", "sorted", "reversed", "int", "str", "bool",
@@ -40,6 +42,21 @@ INTERFACE = {
     "borders.py": {
         "number_of_bunches": None, "bunches": None, "number_of_borders": None, "borders": None, "border": None,
         "Border": ["__init__"], "parts": None, "is_border": None,
+    },
+    "limits.py": {
+        "least_within": None, "judge_within": None, "LeastWithin": ["__init__"], "BetterWithin": ["__init__"],
+        "is_least_within": None, "is_better_within": None, "prices": None,
+    },
+    "changes.py": {
+        "slack": None, "is_only": None, "nearest": None, "Near": ["__init__"], "is_near": None, "taken": None,
+        "until": None,
+    },
+    "common.py": {
+        "common": None, "Common": ["__init__"], "Apart": ["__init__"], "is_common": None, "is_apart": None,
+        "plan": None, "Plan": ["__init__"], "is_plan": None,
+    },
+    "grown.py": {
+        "Text": ["__init__", "__eq__", "rules", "tally", "ahead", "sign_of", "part"], "first_lost": None,
     },
 }
 
@@ -95,7 +112,8 @@ class LanguageTest(unittest.TestCase):
             for node in ast.walk(tree):
                 if isinstance(node, ast.FunctionDef):
                     self.assertLessEqual(node.end_lineno - node.lineno + 1, 40, (name, node.name))
-                    self.assertEqual(node.decorator_list, [], (name, node.name))
+                    decorators = [ast.unparse(part) for part in node.decorator_list]
+                    self.assertLessEqual(set(decorators), {"property"}, (name, node.name))
 
     def test_imports(self):
         for name, tree in self.trees.items():
