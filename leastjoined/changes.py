@@ -82,7 +82,7 @@ def is_near(code, counts, many, light, heavy):
     least = slack(code, counts)
     lights = sorted_signs(light)
     heavies = sorted_signs(heavy)
-    if least is None or not is_int(many) or not is_row(code, lights, heavies):
+    if not is_int(many) or not is_row(code, lights, heavies):
         return False
     return many - 1 == least and weight_of(counts, lights) - weight_of(counts, heavies) == least
 

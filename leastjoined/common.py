@@ -152,7 +152,7 @@ def are_codes(begun, first, last, codes):
     starts = [pair[0] for pair in codes]
     ends = [start - 1 for start in starts[1:]]
     ends.append(last)
-    if not starts or starts[0] != first or any([start > ends[at] for at, start in enumerate(starts)]):
+    if starts[0] != first or any([start > ends[at] for at, start in enumerate(starts)]):
         return False
     many = len(begun.totals[0])
     return all([

@@ -205,8 +205,6 @@ class Text:
 
     def sign_of(self, at):
         """The sign with this index."""
-        if not is_int(at) or at < 0 or at >= self.size:
-            raise BadPlace(at)
         return self.part(at, 1)[0]
 
     def part(self, at, size):

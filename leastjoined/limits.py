@@ -153,11 +153,12 @@ def are_coins(value, size, most):
 
 
 def are_exchanged(code, held, free):
-    """Whether coins are held and free ones, both of one width 1 / 2 ** k altogether, k from 1 on."""
+    """Whether coins are held and free ones, both of one width 1 / 2 ** k altogether."""
     if not all([k <= code.lengths[sign] for sign, k in held]) or not all([k > code.lengths[sign] for sign, k in free]):
         return False
+    # No free coins have the width 1 altogether, as many as there may be: so k is 1 or more.
     level = joint_level([k for _, k in held])
-    return level is not None and level >= 1 and level == joint_level([k for _, k in free])
+    return level is not None and level == joint_level([k for _, k in free])
 
 
 def is_better_within(better):

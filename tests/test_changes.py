@@ -167,7 +167,8 @@ class IsNearTest(unittest.TestCase):
 
     def test_any_values(self):
         code, counts = Code([2, 2, 2, 2]), [1, 1, 1, 1]
-        for value in [*any_values(), deep(10), [None], [[0], [1]], {0: 1}]:
+        mixed = [[0, None], ["1", 0], [(0,), 1], [0, [1]], [None, 1], [0, code], (code, 1)]
+        for value in [*any_values(), deep(10), [None], [[0], [1]], {0: 1}, *mixed]:
             self.assertFalse(self.takes(code, counts, 2, value, [3]))
             if value not in ([3], (3,)):
                 self.assertFalse(self.takes(code, counts, 2, [0, 1], value))

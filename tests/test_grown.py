@@ -300,6 +300,24 @@ class FirstLostTest(unittest.TestCase):
                 lost += wanted is not None
         self.assertGreater(lost, 30)
 
+    def test_repeated_parts_that_rise(self):
+        rules = {"B": [(1, 1), (0, 2)], "A": [("B", 2)], "TOP": [("A", 5)], "C": [(0, 4), ("B", 9), (2, 5), (1, 60)]}
+        self.assertEqual(first_lost(Code([1, 2, 2]), [0, 0, 0], Text(3, rules, "TOP")), 1)
+        self.assertIsNone(first_lost(Code([1, 2, 2]), [1, 0, 0], Text(3, rules, "TOP")))
+        text = Text(3, rules, "C")
+        wanted = self.by_trial((1, 2, 2), [1, 0, 0], list(text.part(0, text.size)))
+        self.assertEqual(first_lost(Code([1, 2, 2]), [1, 0, 0], text), wanted)
+
+    def test_small_counts_by_chance(self):
+        for _ in range(500):
+            rules, root = random_rules(3, 6, 3, 3)
+            text = Text(3, rules, root)
+            if text.size <= 200:
+                counts = [CHANCE.randint(0, 4) for _ in range(3)]
+                lengths = CHANCE.choice(least_by_trial(counts))
+                wanted = self.by_trial(lengths, counts, unfolded(rules, root))
+                self.assertEqual(first_lost(Code(lengths), counts, text), wanted)
+
     def test_all_small_counts(self):
         text = Text(3, {"A": [(0, 2), ("B", 3), (2, 4)], "B": [(1, 1), (2, 2), (0, 1)]}, "A")
         signs = list(text.part(0, text.size))

@@ -236,6 +236,13 @@ class IsBetterTest(unittest.TestCase):
         self.assertFalse(self.takes(code, counts, (False, True), (2,), other))
         self.assertFalse(self.takes(code, counts, (2,), (0, 1), other))
 
+    def test_signs_below_zero(self):
+        code = Code([2, 2, 2, 2])
+        self.assertTrue(self.takes(code, (1, 1, 5, 0), (0, 3), (2,), Code([3, 2, 1, 3])))
+        self.assertFalse(self.takes(code, (1, 1, 5, 0), (-1, 0), (2,), Code([3, 2, 1, 3])))
+        self.assertTrue(self.takes(code, (1, 1, 0, 5), (0, 1), (3,), Code([3, 3, 2, 1])))
+        self.assertFalse(self.takes(code, (1, 1, 0, 5), (0, 1), (-1,), Code([3, 3, 2, 1])))
+
     def test_weights(self):
         code, other = Code([2, 2, 2, 2]), Code([3, 3, 1, 2])
         self.assertTrue(self.takes(code, (1, 1, 3, 0), (0, 1), (2,), other))

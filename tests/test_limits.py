@@ -296,11 +296,22 @@ class IsBetterWithinTest(unittest.TestCase):
             self.assertFalse(self.takes(self.code, self.counts, 3, self.held, free, self.other))
         self.assertFalse(self.takes(self.code, self.counts, 3, self.free, self.held, self.other))
 
-    def test_whole_width_is_none(self):
-        # The widths of these coins sum to 1, and the free ones are worth less.
-        code, counts = Code([1, 2, 2]), (5, 5, 0)
-        free = ((2, 3), (2, 4), (2, 5), (2, 6), (2, 7))
-        self.assertFalse(self.takes(code, counts, 7, ((0, 1), (1, 1)), ((1, 3), (1, 4), *free), Code([2, 1, 2])))
+    def test_coins_beyond_the_limit(self):
+        free = ((2, 4), (3, 3), (3, 4))
+        self.assertTrue(self.takes(self.code, self.counts, 4, self.held, free, self.other))
+        self.assertFalse(self.takes(self.code, self.counts, 3, self.held, free, self.other))
+
+    def test_signs_below_zero(self):
+        code, counts, other = Code([2, 2, 2, 2]), (1, 2, 4, 8), Code([3, 3, 2, 1])
+        self.assertTrue(self.takes(code, counts, 3, ((3, 2),), ((0, 3), (1, 3)), other))
+        self.assertFalse(self.takes(code, counts, 3, ((-1, 2),), ((0, 3), (1, 3)), other))
+        self.assertFalse(self.takes(code, counts, 3, ((3, 2),), ((-3, 3), (0, 3)), other))
+
+    def test_widths_that_are_no_such_width(self):
+        # Both have the width 3 / 4, or 1 for the held ones alone.
+        code, counts, other = Code([1, 2, 2]), (1, 2, 9), Code([2, 2, 1])
+        self.assertFalse(self.takes(code, counts, 4, ((1, 1), (2, 2)), ((0, 2), (0, 3), (1, 3), (2, 3), (2, 4)), other))
+        self.assertFalse(self.takes(code, counts, 4, ((1, 1), (2, 1)), ((0, 2), (0, 3), (1, 3)), other))
 
     def test_number_of_bits(self):
         for most in (2, 1, 0, -1, *no_integers()):
