@@ -162,6 +162,10 @@ class Text:
         """How many signs a name has up to the end of each pair of its filled rule."""
         return list(accumulate([count * self.size_of(part) for part, count in self._filled[name]]))
 
+    def filled_rules(self):
+        """The rules without parts and names that have no sign, each name behind all those below it."""
+        return {name: self._filled[name] for name in self._filled}
+
     def size_of(self, part):
         """How many signs a sign or a name has."""
         return self._sizes.get(part, 1)

@@ -98,6 +98,39 @@ GROWN = """
 [2000000000000000000000000000006, None]
 """
 
+READERS = """
+>>> from leastjoined.codes import Code
+>>> from leastjoined.readers import read, spelled
+>>> code = Code([1, 2, 3, 3])
+>>> [code.words, spelled(code, [2, 0, 1])]
+[('0', '10', '110', '111'), '110010']
+>>> told = read(code, "1100101")
+>>> [told.signs, told.ends, told.node, read(code, "00", "11").signs]
+[(2, 0, 1), (3, 4, 6), '1', (2, 0)]
+"""
+
+TABLES = """
+>>> from leastjoined.codes import Code
+>>> from leastjoined.tables import Tables, least_tables
+>>> code = Code([1, 2, 3, 3])
+>>> [least_tables(code, looks).rows for looks in (1, 2, 3)]
+[8, 6, 6]
+>>> told = Tables(code, {"": 2, "11": 1})
+>>> [told.rows, told.row("", "01"), told.row("", "11"), told.row("11", "0"), told.looked(3), str(told.mean([4, 2, 1, 1]))]
+[6, ('sign', 0, 1), ('table', '11'), ('sign', 2, 1), 2, '5/4']
+"""
+
+CODED = """
+>>> from leastjoined.codes import Code
+>>> from leastjoined.coded import coded
+>>> from leastjoined.grown import Text
+>>> told = coded(Code([1, 2, 2]), Text(3, {"A": [(2, 10 ** 30), (0, 1)]}, "A"))
+>>> [told.size == 2 * 10 ** 30 + 1, told.sign_at(5), told.begin(10 ** 30) == 2 * 10 ** 30, told.right_from(1) == told.size]
+[True, (2, 1), True, True]
+>>> [told.flipped(1), told.flipped(0) == (10 ** 30 + 1, 2 * 10 ** 30 + 1)]
+[(1, 2), True]
+"""
+
 
 class ExamplesTest(unittest.TestCase):
     def shows(self, text, many):
@@ -133,8 +166,17 @@ class ExamplesTest(unittest.TestCase):
     def test_grown(self):
         self.shows(GROWN, 5)
 
+    def test_readers(self):
+        self.shows(READERS, 6)
+
+    def test_tables(self):
+        self.shows(TABLES, 6)
+
+    def test_coded(self):
+        self.shows(CODED, 6)
+
     def test_readme(self):
-        self.shows(README.read_text(encoding="utf-8").replace("\n```", "\n"), 27)
+        self.shows(README.read_text(encoding="utf-8").replace("\n```", "\n"), 34)
 
 
 if __name__ == "__main__":

@@ -7,71 +7,20 @@ from leastjoined.codes import Code, all_codes
 from leastjoined.grown import Text, first_lost
 from leastjoined.joining import joined
 from leastjoined.least import Least, judge
+from texts import great_text, name_of, random_rules, short_texts, unfolded
 from trial import least_by_trial, lengths_of_all
 from values import GREAT, any_values, deep, fields, no_integers, raised
 
 CHANCE = random.Random(13)
 
 
-def unfolded(rules, name):
-    """The text of a name as a list, by its rule."""
-    signs = []
-    for part, count in rules[name]:
-        signs += (unfolded(rules, part) if isinstance(part, str) else [part]) * count
-    return signs
-
-
-def name_of(number):
-    return "".join(chr(65 + number // 26 ** at % 26) for at in range(3))
-
-
-def random_rules(signs, many, parts, most):
-    """Rules each of which has names of the ones ahead of it among its parts."""
-    rules = {}
-    for number in range(many):
-        rule = []
-        for _ in range(CHANCE.randint(0, parts)):
-            if rules and CHANCE.random() < 0.6:
-                part = CHANCE.choice(sorted(rules))
-            else:
-                part = CHANCE.randrange(signs)
-            rule.append((part, CHANCE.randint(1, most)))
-        rules[name_of(number)] = rule
-    names = list(rules)
-    CHANCE.shuffle(names)
-    return {name: rules[name] for name in names}, name_of(many - 1)
-
-
-def short_texts(signs):
-    """Texts by rules within one another and what they unfold to."""
-    found = []
-    while len(found) < 60:
-        rules, root = random_rules(signs, CHANCE.randint(1, 7), 4, 3)
-        text = Text(signs, rules, root)
-        if text.size <= 400:
-            found.append((text, unfolded(rules, root)))
-    return found
-
-
 def tally_of(signs, some):
     return tuple(some.count(sign) for sign in range(signs))
 
 
-def great_text(signs, many=300, parts=40, most=GREAT):
-    """A text as long as the document allows."""
-    rules = {}
-    for number in range(many):
-        rule = [(CHANCE.randrange(signs), CHANCE.randint(1, most)) for _ in range(parts)]
-        for at in range(parts):
-            if number > 0 and CHANCE.random() < 0.7:
-                rule[at] = (name_of(number - CHANCE.randint(1, min(number, 9))), rule[at][1])
-        rules[name_of(number)] = rule
-    return Text(signs, rules, name_of(many - 1))
-
-
 class TextTest(unittest.TestCase):
     def test_against_the_unfolded_text(self):
-        for text, signs in short_texts(4):
+        for text, signs in short_texts(CHANCE, 4):
             self.assertEqual(text.size, len(signs))
             self.assertEqual(text.tally(), tally_of(4, signs))
             for size in range(len(signs) + 1):
@@ -150,7 +99,7 @@ class TextTest(unittest.TestCase):
 
     def test_great_texts(self):
         for signs in (2, 8, 26):
-            text = great_text(signs)
+            text = great_text(CHANCE, signs)
             self.assertGreater(text.size, 10 ** 1000)
             self.assertEqual(sum(text.tally()), text.size)
             self.assertEqual((text.ahead(text.size), text.ahead(0)), (text.tally(), (0,) * signs))
@@ -290,7 +239,7 @@ class FirstLostTest(unittest.TestCase):
     def test_against_the_unfolded_text(self):
         lost = 0
         for signs in (3, 4, 5):
-            for text, unfold in short_texts(signs):
+            for text, unfold in short_texts(CHANCE, signs):
                 if text.size > 150:
                     continue
                 counts = [CHANCE.randint(0, 12) for _ in range(signs)]
@@ -310,7 +259,7 @@ class FirstLostTest(unittest.TestCase):
 
     def test_small_counts_by_chance(self):
         for _ in range(500):
-            rules, root = random_rules(3, 6, 3, 3)
+            rules, root = random_rules(CHANCE, 3, 6, 3, 3)
             text = Text(3, rules, root)
             if text.size <= 200:
                 counts = [CHANCE.randint(0, 4) for _ in range(3)]
@@ -326,7 +275,7 @@ class FirstLostTest(unittest.TestCase):
                 self.assertEqual(first_lost(Code(lengths), counts, text), self.by_trial(lengths, counts, signs))
 
     def test_two_signs_are_never_lost(self):
-        self.assertIsNone(first_lost(Code([1, 1]), [0, 5], great_text(2, 50, 10)))
+        self.assertIsNone(first_lost(Code([1, 1]), [0, 5], great_text(CHANCE, 2, 50, 10)))
 
     def test_it_need_not_stay_lost(self):
         text = Text(3, {"A": [(1, 2), (0, 50)]}, "A")
@@ -344,7 +293,7 @@ class FirstLostTest(unittest.TestCase):
 
     def test_great_texts(self):
         for signs in (3, 5, 8):
-            text = great_text(signs)
+            text = great_text(CHANCE, signs)
             for most in (10, GREAT):
                 counts = [CHANCE.randint(0, most) for _ in range(signs)]
                 code = joined(counts, "old").code
@@ -375,7 +324,7 @@ class FirstLostTest(unittest.TestCase):
         for lengths in ([3] * 8, [2, 2, 3, 3, 4, 4, 4, 4], [1, 2, 3, 4, 5, 6, 7, 7]):
             code = Code(lengths)
             counts = [2 ** (7 - length) for length in lengths]
-            for text, signs in short_texts(8):
+            for text, signs in short_texts(CHANCE, 8):
                 place = first_lost(code, counts, text)
                 now, wanted = list(counts), None
                 for size, sign in enumerate(signs, start=1):

@@ -58,6 +58,11 @@ INTERFACE = {
     "grown.py": {
         "Text": ["__init__", "__eq__", "rules", "tally", "ahead", "sign_of", "part"], "first_lost": None,
     },
+    "readers.py": {"follow": None, "spelled": None, "read": None, "Reading": ["__init__"]},
+    "tables.py": {"Tables": ["__init__", "widths", "row", "looked", "mean"], "least_tables": None},
+    "coded.py": {
+        "coded": None, "Coded": ["__init__", "bit", "part", "begin", "sign_at", "right_from", "flipped"],
+    },
 }
 
 
