@@ -20,13 +20,12 @@ def led_to(nodes, node, width):
 def check_widths(code, nodes, widths):
     """Raises BadTable unless there are tables with fit widths at the root and at the nodes to which rows lead."""
     for node in widths:
-        if not isinstance(node, str) or node not in nodes:
+        if node not in nodes:
             raise BadTable(node)
         width = widths[node]
         if not is_int(width) or width < 1 or width > longest_way(code, node):
             raise BadTable(node)
-    if "" not in widths:
-        raise BadTable("")
+    # The root is asked for first, and the first one in the order of the nodes.
     wanted = {"": True}
     for node in widths:
         for other in led_to(nodes, node, widths[node]):

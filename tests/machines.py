@@ -81,3 +81,30 @@ def strings(size):
 def turned(bits, place):
     """Bits with the one at this place turned."""
     return bits[:place] + ("1" if bits[place] == "0" else "0") + bits[place + 1:]
+
+
+def shortest_by_trial(words):
+    """How many bits the shortest string has behind which readers at all nodes are one, None if there is none.
+
+    Over all sets of nodes.
+    """
+    groups = {frozenset(nodes_of_words(words))}
+    seen = set(groups)
+    size = 0
+    while groups:
+        if any(len(group) == 1 for group in groups):
+            return size
+        groups = {frozenset(goal(words, node, bit) for node in group) for group in groups for bit in "01"} - seen
+        seen |= groups
+        size += 1
+    return None
+
+
+@lru_cache(maxsize=None)
+def never_set(many):
+    """The sets of so many words that no string sets right."""
+    return [words for words in trees(many) if shortest_by_trial(words) is None]
+
+
+# No word begins another one, and no word ends another one.
+BOTH_WAYS = ("000", "0010", "0011", "01", "100", "1010", "1011", "110", "111")

@@ -13,12 +13,19 @@ from values import GREAT, any_values, fields, no_integers, raised
 
 CHANCE = random.Random(16)
 DEEP = Code([*range(1, 26), 25])
+# Where 01 comes again and again, a second reader goes round rings of two and three nodes, behind some others.
+RINGS = [
+    ("00", "01", "100", "10100", "101010", "101011", "1011", "11"),
+    ("00", "01", "1000", "10010", "10011", "1010", "1011", "11"),
+    ("00", "01", "100", "1010", "1011", "11"),
+]
 
 
 def codes():
     """Codes of two to eight signs, some of which set no reader right."""
     told = [Code([1, 1]), Code([1, 1], ["1", "0"]), Code([1, 2, 2]), Code([2, 2, 2, 2]), Code([3] * 8)]
     told += [of_words(trees(5)[3]), mixed(twice(("0", "1")), 1)]
+    told += [of_words(words) for words in RINGS]
     told += [split_code(many, seed, deep) for many in range(3, 9) for seed in range(2) for deep in (False, True)]
     return told
 
@@ -210,6 +217,29 @@ class GreatTextsTest(unittest.TestCase):
             self.assertEqual(there, right)
         else:
             self.assertEqual(there, right + shift)
+
+    def test_one_sign_again_and_again(self):
+        for words in RINGS:
+            code = of_words(words)
+            period = lcm(*range(1, code.size))
+            for few in range(period + 8, period + 14):
+                for head, last in itertools.product(range(code.size), repeat=2):
+                    rules = [(head, 1)], [(1, 1)], [(last, 2)]
+                    one = coded(code, repeated(code, *rules, few))
+                    other = coded(code, repeated(code, *rules, few + period * 10 ** 30))
+                    for node in nodes_of_words(words):
+                        right, there = one.right_from(0, node), other.right_from(0, node)
+                        self.same(right, there, 0, 1, 2 * few, other.size - one.size)
+
+    def test_one_sign_so_many_times(self):
+        for words in RINGS:
+            code = of_words(words)
+            for many in range(1, 20):
+                for head, last in itertools.product(range(code.size), repeat=2):
+                    signs = [head] + [1] * many + [last]
+                    one = coded(code, Text(code.size, {"A": [(head, 1), (1, many), (last, 1)]}, "A"))
+                    for node in nodes_of_words(words):
+                        self.assertEqual(one.right_from(0, node), ByTrial(code, signs).right_from(0, node))
 
     def test_one_text_by_many_rules(self):
         # A part 2 ** 100 times, by one count and by a hundred names.

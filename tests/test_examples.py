@@ -131,6 +131,38 @@ CODED = """
 [(1, 2), True]
 """
 
+SETTING = """
+>>> from leastjoined.codes import Code
+>>> from leastjoined.setting import Never, Sets, is_never, setting
+>>> [setting(Code([1, 2, 3, 3])).bits, is_never(Never(Code([2, 2, 2, 2]), [("", "0"), ("", "1")]))]
+['0', True]
+>>> isinstance(setting(Code([2, 2, 2, 2])), Never)
+True
+"""
+
+DELAYS = """
+>>> from leastjoined.codes import Code
+>>> from leastjoined.delays import delays
+>>> told = delays(Code([1, 2, 2]))
+>>> [told.fewest("", "1"), told.greatest("", "1"), told.apart_by("", "1")[1] != "", str(told.mean("", "1", [2, 1, 1]))]
+[1, None, True, '2']
+"""
+
+FLIPS = """
+>>> from leastjoined.codes import Code
+>>> from leastjoined.flips import flips
+>>> told = flips(Code([1, 2, 2]))
+>>> [told.most, told.gain, str(told.mean([2, 1, 1])), flips(Code([2, 2, 2, 2])).most]
+[None, (-1, 1), '5/3', 1]
+"""
+
+SOONEST = """
+>>> from leastjoined.soonest import soonest
+>>> told = soonest([2, 1, 1, 1])
+>>> [sorted(told.code.lengths), len(told.bits), soonest([1, 1, 1, 1])]
+[[1, 2, 3, 3], 1, None]
+"""
+
 
 class ExamplesTest(unittest.TestCase):
     def shows(self, text, many):
@@ -175,8 +207,20 @@ class ExamplesTest(unittest.TestCase):
     def test_coded(self):
         self.shows(CODED, 6)
 
+    def test_setting(self):
+        self.shows(SETTING, 4)
+
+    def test_delays(self):
+        self.shows(DELAYS, 4)
+
+    def test_flips(self):
+        self.shows(FLIPS, 4)
+
+    def test_soonest(self):
+        self.shows(SOONEST, 3)
+
     def test_readme(self):
-        self.shows(README.read_text(encoding="utf-8").replace("\n```", "\n"), 34)
+        self.shows(README.read_text(encoding="utf-8").replace("\n```", "\n"), 44)
 
 
 if __name__ == "__main__":

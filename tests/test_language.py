@@ -63,6 +63,12 @@ INTERFACE = {
     "coded.py": {
         "coded": None, "Coded": ["__init__", "bit", "part", "begin", "sign_at", "right_from", "flipped"],
     },
+    "setting.py": {
+        "is_setting": None, "setting": None, "Sets": ["__init__"], "Never": ["__init__"], "is_never": None,
+    },
+    "delays.py": {"delays": None, "Delays": ["__init__", "fewest", "greatest", "apart_by", "mean"]},
+    "flips.py": {"flips": None, "Flips": ["__init__", "mean"]},
+    "soonest.py": {"soonest": None, "Soonest": ["__init__"]},
 }
 
 

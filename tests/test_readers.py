@@ -210,6 +210,7 @@ class ReadTest(unittest.TestCase):
         signs.append(5)
         ends.clear()
         self.assertEqual((told.signs, told.ends, told.node), ((1, 0), (2, 3), "1"))
+        self.assertEqual(Reading([], [], [["1"]]).node, (("1",),))
 
 
 if __name__ == "__main__":
